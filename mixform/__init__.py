@@ -1,0 +1,1 @@
+"""Mixform: terms whose order makes no difference."""
