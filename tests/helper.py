@@ -1,4 +1,4 @@
-"""What the tests share: terms written shortly, terms made by rule, and a second, slower way to a term's form."""
+"""What the tests share: terms written shortly, terms and texts made by rule, and a second, slower way to a form."""
 
 from collections import Counter
 
@@ -57,6 +57,36 @@ def regrouped(numbers, term):
         groups = [mix(*parts[:cut])] + parts[cut:]
         new = mix(*numbers.shuffled(groups))
     return (new, mix(new), mix(NOTHING, new), mix(new, NOTHING))[numbers.below(4)]
+
+
+def written(numbers, depth):
+    """A text that the document allows, and a term for it, by rule."""
+    texts, terms = [], []
+    for _ in range(1 + numbers.below(3)):
+        text, term = written_part(numbers, depth)
+        texts.append(text)
+        terms.append(term)
+    return " + ".join(texts), mix(*terms)
+
+
+def written_part(numbers, depth):
+    """One part of such a text, and a term for it."""
+    choice = numbers.below(6)
+    if choice == 0:
+        return "0", NOTHING
+    number = numbers.below(4)
+    if choice == 1 or depth == 0:
+        name = ("x", "y", "xy", "abcdef")[numbers.below(4)]
+        text, term = name, unknown(name)
+    elif choice <= 3:
+        inside = [written(numbers, depth - 1) for _ in range(numbers.below(4))]
+        sign = ("F", "G", "FG", "ABCDEF")[numbers.below(4)]
+        text = sign + ("(" + ", ".join(text for text, _ in inside) + ")" if inside else "")
+        term = thing(sign, *[term for _, term in inside])
+    else:
+        text, term = written(numbers, depth - 1)
+        text = "(" + text + ")"
+    return (str(number) if number else "") + text, mix(*[term] * max(number, 1))
 
 
 def heap(term):
