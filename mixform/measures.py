@@ -37,8 +37,13 @@ def unknowns(form):
     return tuple(sorted(set(names)))
 
 
-def things(form):
-    """The items at any depth that are no unknowns, sorted, each once."""
-    found = sorted([item for item in items_within(form) if item[0] == "of"])
+def things_among(items):
+    """The items that are no unknowns, sorted, each once."""
+    found = sorted([item for item in items if item[0] == "of"])
     # Sorted, equal things are neighbours; a set can't hold things that stand so deep in one another.
     return tuple([item for at, item in enumerate(found) if at == 0 or found[at - 1] != item])
+
+
+def things(form):
+    """The items at any depth that are no unknowns, sorted, each once."""
+    return things_among(items_within(form))

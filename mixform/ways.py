@@ -25,21 +25,26 @@ def has(way, name):
 
 def put(form, way):
     """The form with the way's unknowns replaced at any depth, all at once."""
+    return put_up_to(form, way, MOST_SPREAD)
+
+
+def put_up_to(form, way, most):
+    """What put tells, refused where its spread is above most; None for most is no bound."""
     pairs = []
     for item, count in form:
-        pairs.extend(times(count, put_item(item, way)))
+        pairs.extend(times(count, put_item(item, way, most)))
     whole = gathered(pairs)
     # Asked of each part too: a part above the bound lies within a whole above it, and needn't be gone on with.
-    if spread(whole) > MOST_SPREAD:
-        raise TooMany(f"the form that comes has a spread above {MOST_SPREAD}")
+    if most is not None and spread(whole) > most:
+        raise TooMany(f"the form that comes has a spread above {most}")
     return whole
 
 
-def put_item(item, way):
+def put_item(item, way, most):
     """What stands for an item once, as a form."""
     if item[0] == "any":
         return has(way, item[1])
-    parts = tuple([put(part, way) for part in item[2]])
+    parts = tuple([put_up_to(part, way, most) for part in item[2]])
     return ((("of", item[1], parts), 1),)
 
 

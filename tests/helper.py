@@ -1,6 +1,11 @@
-"""What the tests share: terms written shortly, terms and texts made by rule, and a second, slower way to a form."""
+"""What the tests share: terms written shortly, things made by rule, and second, slower ways to what is told."""
 
+import unittest
 from collections import Counter
+from itertools import product
+
+from mixform.errors import MixError
+from mixform.reader import read
 
 
 def unknown(name):
@@ -16,6 +21,19 @@ def mix(*parts):
 
 
 NOTHING = mix()
+
+
+def way(**texts):
+    return tuple(sorted((name, read(text)) for name, text in texts.items()))
+
+
+class Refusing(unittest.TestCase):
+    def refused(self, error, asked, *things):
+        """Fails where what is asked isn't refused by that error's own name, by MixError and by ValueError."""
+        for name in (error, MixError, ValueError):
+            with self.assertRaises(name, msg=repr(things)) as caught:
+                asked(*things)
+            self.assertIs(type(caught.exception), error)
 
 
 class Numbers:
@@ -136,3 +154,113 @@ def check_item(test, item):
     test.assertLessEqual(len(item[2]), 3)
     for part in item[2]:
         check_form(test, part)
+
+
+PARTS = {"A": 0, "B": 0, "F": 1, "G": 2, "H": 3}
+
+
+def made_form(numbers, names, size, signs="ABFG"):
+    """A form of at most that size, of few names and signs, so that equal items come together."""
+    whole = Counter()
+    while size > 0 and numbers.below(6):
+        if names and numbers.below(2):
+            item = ("any", names[numbers.below(len(names))])
+        else:
+            sign = signs[numbers.below(len(signs))]
+            room = (size - 1) // max(PARTS[sign], 1)
+            item = ("of", sign, tuple(made_form(numbers, names, room, signs) for _ in range(PARTS[sign])))
+        whole[item] += 1
+        size -= size_of(((item, 1),))
+    return tuple(sorted(whole.items()))
+
+
+def size_of(form):
+    whole = 0
+    for item, count in form:
+        parts = item[2] if item[0] == "of" else ()
+        whole += count * (1 + sum(size_of(part) for part in parts))
+    return whole
+
+
+def forms_within(form):
+    """The form and the parts of its things, at any depth."""
+    found = [form]
+    for item, _ in form:
+        if item[0] == "of":
+            for part in item[2]:
+                found.extend(forms_within(part))
+    return found
+
+
+def under_form(form):
+    """All forms that can be taken from the form."""
+    counts = product(*[range(count + 1) for _, count in form])
+    return [tuple((item, many) for (item, _), many in zip(form, row) if many) for row in counts]
+
+
+def pieces(form):
+    """All forms that can be taken from the form or from a part of its things at any depth, each once."""
+    return sorted({piece for whole in forms_within(form) for piece in under_form(whole)})
+
+
+def replaced(form, forms):
+    """The form with forms of a dict put in for its unknowns, by a Counter."""
+    whole = Counter()
+    for item, count in form:
+        if item[0] == "of":
+            whole[("of", item[1], tuple(replaced(part, forms) for part in item[2]))] += count
+        else:
+            for inner, often in forms.get(item[1], ((item, 1),)):
+                whole[inner] += count * often
+    return tuple(sorted(whole.items()))
+
+
+def names_in(*forms):
+    """The names of unknowns in forms at any depth, sorted, each once."""
+    found = set()
+    for form in forms:
+        for whole in forms_within(form):
+            found.update(item[1] for item, _ in whole if item[0] == "any")
+    return sorted(found)
+
+
+def things_in(*forms):
+    """The things in forms at any depth, sorted, each once."""
+    return sorted({item for form in forms for whole in forms_within(form) for item, _ in whole if item[0] == "of"})
+
+
+def leads(parting, choice, names, one, other):
+    """Whether one class number or name leads to another one, by the document's words."""
+    if isinstance(one, str):
+        return one in names and isinstance(other, int) and choice[other][list(names).index(one)] > 0
+    tops = [item for thing in parting[one] for part in thing[2] for item, _ in part]
+    if isinstance(other, str):
+        return ("any", other) in tops
+    return any(thing in tops for thing in parting[other])
+
+
+def goes_round(parting, choice, names, found):
+    """Whether a tuple is a round of the choice."""
+    nodes = list(range(len(parting))) + list(names)
+    if len(found) == 0 or len(set(found)) < len(found) or any(node not in nodes for node in found):
+        return False
+    return all(leads(parting, choice, names, node, after) for node, after in zip(found, found[1:] + found[:1]))
+
+
+def has_round(parting, choice, names):
+    """Whether one comes from a class back to it, told by what is left when ends are taken away again and again."""
+    left = list(range(len(parting))) + list(names)
+    before = None
+    while before != left:
+        before = left
+        left = [node for node in left if any(leads(parting, choice, names, node, after) for after in left)]
+    return bool(left)
+
+
+def made_pair(numbers, names, room, signs="AFG"):
+    """Two forms, made by rule, that may well be made alike."""
+    one, other = made_form(numbers, names, room, signs), made_form(numbers, names, room, signs)
+    if numbers.below(3) == 0:
+        forms = {name: made_form(numbers, names, 2, "A") for name in names}
+        other = replaced(one, forms)
+    return one, other

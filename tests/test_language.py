@@ -16,6 +16,10 @@ WORDS = r"\b(type|typing|typing_extensions|enum|Enum|IntEnum|StrEnum|Flag|IntFla
     r"|namedtuple|NamedTuple|TypedDict|TYPE_CHECKING|abstractmethod)\b|dataclass|overload|contextmanager"
 FORBIDDEN = (ast.With, ast.Match, ast.Global, ast.Nonlocal, ast.Yield, ast.YieldFrom, ast.AsyncFunctionDef,
              ast.AsyncFor, ast.AsyncWith, ast.Await, ast.GeneratorExp, ast.NamedExpr, ast.Div, ast.Import)
+METHODS = set("""append clear copy count endswith extend find get index insert isalnum isalpha isdigit islower isspace
+    isupper items join keys ljust lower lstrip partition pop remove replace reverse rfind rjust rpartition rsplit rstrip
+    setdefault split splitlines startswith strip update upper values zfill bit_length add discard sort""".split())
+WALKED = {"zip", "enumerate", "reversed", "range", "items", "keys", "values"}
 
 
 def nodes(kind):
@@ -59,6 +63,44 @@ class Language(unittest.TestCase):
                 self.assertIsInstance(node.ctx, ast.Load, where)
         for where, node in nodes(ast.arg):
             self.assertFalse(hasattr(builtins, node.arg), where)
+
+    def test_no_name_is_called_like_an_import_or_a_class(self):
+        for path in FILES:
+            tree = ast.parse(path.read_text(encoding="utf-8"))
+            tops = [name.name for node in tree.body if isinstance(node, ast.ImportFrom) for name in node.names]
+            tops += [node.name for node in tree.body if isinstance(node, (ast.ClassDef, ast.FunctionDef))]
+            self.assertEqual(len(tops), len(set(tops)), path.name)
+            given = [node.arg for node in ast.walk(tree) if isinstance(node, ast.arg)]
+            names = [node for node in ast.walk(tree) if isinstance(node, ast.Name)]
+            given += [node.id for node in names if isinstance(node.ctx, ast.Store)]
+            self.assertEqual(set(tops) & set(given), set(), path.name)
+
+    def test_is_stands_beside_none_true_and_false(self):
+        for where, node in nodes(ast.Compare):
+            for operator, beside in zip(node.ops, node.comparators):
+                if isinstance(operator, (ast.Is, ast.IsNot)):
+                    self.assertIsInstance(beside, ast.Constant, where)
+                    self.assertIn(beside.value, (None, True, False), where)
+
+    def test_methods(self):
+        own = {node.name for _, node in nodes(ast.FunctionDef)}
+        for where, node in nodes(ast.Call):
+            if isinstance(node.func, ast.Attribute):
+                self.assertIn(node.func.attr, METHODS | own, where)
+
+    def test_what_is_walked_is_not_kept(self):
+        for where, node in nodes((ast.Assign, ast.Return)):
+            if isinstance(node.value, ast.Call):
+                called = node.value.func
+                name = called.attr if isinstance(called, ast.Attribute) else getattr(called, "id", None)
+                self.assertNotIn(name, WALKED, where)
+
+    def test_values_and_methods_of_objects_bear_unlike_names(self):
+        inner = [part for _, node in nodes(ast.ClassDef) for part in node.body]
+        methods = {part.name for part in inner if isinstance(part, ast.FunctionDef)}
+        for where, node in nodes(ast.Attribute):
+            if isinstance(node.ctx, ast.Store):
+                self.assertNotIn(node.attr, methods | METHODS, where)
 
     def test_imports(self):
         for where, node in nodes(ast.ImportFrom):

@@ -1,8 +1,8 @@
 import unittest
 from itertools import product
 
-from helper import Numbers
-from mixform.errors import MixError, TooMany
+from helper import Numbers, Refusing
+from mixform.errors import TooMany
 from mixform.leasts import least, least_to
 from mixform.rows import solves
 
@@ -240,16 +240,10 @@ class LeastTo(unittest.TestCase):
                     self.assertTrue(any(solves(rows, rest) for rest in rests))
 
 
-class Bounds(unittest.TestCase):
-    def refused(self, asked, *things):
-        for error in (TooMany, MixError, ValueError):
-            with self.assertRaises(error, msg=repr(things)) as caught:
-                asked(*things)
-            self.assertIs(type(caught.exception), TooMany)
-
+class Bounds(Refusing):
     def both_refused(self, rows, many):
-        self.refused(least, rows, many)
-        self.refused(least_to, rows, many, (0,) * len(rows))
+        self.refused(TooMany, least, rows, many)
+        self.refused(TooMany, least_to, rows, many, (0,) * len(rows))
 
     def both_taken(self, rows, many):
         self.assertIs(type(least(rows, many)), list)
@@ -280,19 +274,19 @@ class Bounds(unittest.TestCase):
         self.assertEqual(least_to([(1, -1)], 2, (-20,)), [(0, 20)])
         self.assertEqual(least_to([(3,), (3,)], 1, (20, 20)), [])
         for number in (21, -21, 22, -1000, 10 ** 18):
-            self.refused(least_to, [(1, -1)], 2, (number,))
-            self.refused(least_to, [(1, -1), (0, 0)], 2, (0, number))
-            self.refused(least_to, [(1, -1), (0, 0)], 2, (number, 1))
-            self.refused(least_to, [()], 0, (number,))
-            self.refused(least_to, [(1, -1), (1, -1)], 2, (1, number))
+            self.refused(TooMany, least_to, [(1, -1)], 2, (number,))
+            self.refused(TooMany, least_to, [(1, -1), (0, 0)], 2, (0, number))
+            self.refused(TooMany, least_to, [(1, -1), (0, 0)], 2, (number, 1))
+            self.refused(TooMany, least_to, [()], 0, (number,))
+            self.refused(TooMany, least_to, [(1, -1), (1, -1)], 2, (1, number))
 
     def test_two_at_once(self):
         self.both_refused([(4,) * 5] * 17, 5)
         self.both_refused([(4, 0)] * 17, 2)
         self.both_refused([(0, 0, 0, 0, -4)], 5)
-        self.refused(least_to, [(4, 1)], 2, (21,))
-        self.refused(least_to, [(1, 1)] * 17, 2, (21,) * 17)
-        self.refused(least_to, [(1, 1, 1, 1, 1)], 5, (-21,))
+        self.refused(TooMany, least_to, [(4, 1)], 2, (21,))
+        self.refused(TooMany, least_to, [(1, 1)] * 17, 2, (21,) * 17)
+        self.refused(TooMany, least_to, [(1, 1, 1, 1, 1)], 5, (-21,))
 
 
 class Kept(unittest.TestCase):

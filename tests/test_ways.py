@@ -1,17 +1,13 @@
 import unittest
 
-from helper import Numbers, check_form, made_term, mix, thing
-from mixform.errors import MixError, TooMany
+from helper import Numbers, Refusing, check_form, made_term, mix, thing, way
+from mixform.errors import TooMany
 from mixform.forms import form_of, plus, times
 from mixform.measures import depth, spread
 from mixform.reader import read
 from mixform.ways import chained, cut, has, put
 
 GREAT = 10 ** 18
-
-
-def way(**texts):
-    return tuple(sorted((name, read(text)) for name, text in texts.items()))
 
 
 def names_in_row(many):
@@ -44,14 +40,6 @@ def made_terms(numbers):
 
 def way_of(terms):
     return tuple((name, form_of(term)) for name, term in sorted(terms.items()))
-
-
-class Refusing(unittest.TestCase):
-    def refused(self, asked, *things):
-        for error in (TooMany, MixError, ValueError):
-            with self.assertRaises(error) as caught:
-                asked(*things)
-            self.assertIs(type(caught.exception), TooMany)
 
 
 class Has(unittest.TestCase):
@@ -138,19 +126,19 @@ class Put(Refusing):
         told = put(form, (("x", wide(249)),))
         self.assertEqual(spread(told), 2000)
         self.assertEqual(told, eight(wide(249)))
-        self.refused(put, form, (("x", wide(250)),))
+        self.refused(TooMany, put, form, (("x", wide(250)),))
         more = plus(form, ((("any", "y"), 1),))
-        self.refused(put, more, (("x", wide(249)),))
+        self.refused(TooMany, put, more, (("x", wide(249)),))
         self.assertEqual(put(more, (("x", wide(249)), ("y", ()))), told)
-        self.refused(put, more, (("x", wide(249)), ("y", read("A"))))
+        self.refused(TooMany, put, more, (("x", wide(249)), ("y", read("A"))))
 
     def test_two_thousand_at_the_top(self):
         form = ((("any", "x"), 5), (("any", "y"), GREAT))
         one = put(eight(((("any", "x"), 1),)), (("x", wide(249)),))
         self.assertEqual(put(form, (("x", one), ("y", one))), times(GREAT + 5, one))
         self.assertEqual(put(form, (("x", one), ("y", ()))), times(5, one))
-        self.refused(put, form, (("x", one),))
-        self.refused(put, form, (("x", one), ("y", read("z"))))
+        self.refused(TooMany, put, form, (("x", one),))
+        self.refused(TooMany, put, form, (("x", one), ("y", read("z"))))
 
     def test_the_spread_is_that_of_what_comes(self):
         names = names_in_row(100)
@@ -163,13 +151,14 @@ class Put(Refusing):
         told = put(read("G(x) + 3G(y)"), (("x", part), ("y", part)))
         self.assertEqual(told, ((("of", "G", (part,)), 4),))
         self.assertEqual(spread(told), 2000)
-        self.refused(put, read("G(x) + 3G(y) + z"), (("x", part), ("y", part)))
-        self.refused(put, read("G(x) + 3G(2y)"), (("x", part), ("y", part)))
+        self.refused(TooMany, put, read("G(x) + 3G(y) + z"), (("x", part), ("y", part)))
+        self.refused(TooMany, put, read("G(x) + 3G(2y)"), (("x", part), ("y", part)))
 
     def test_far_above_the_bound(self):
         form = tuple((("of", "F" + name.upper(), (((("any", "x"), 1),),)), 1) for name in names_in_row(150))
-        self.refused(put, form, (("x", wide(300)),))
-        self.refused(put, read("F(x, x, x) + G(H(x, x), H(y, x))"), (("x", eight(wide(249))), ("y", wide(300))))
+        self.refused(TooMany, put, form, (("x", wide(300)),))
+        form = read("F(x, x, x) + G(H(x, x), H(y, x))")
+        self.refused(TooMany, put, form, (("x", eight(wide(249))), ("y", wide(300))))
 
     def test_forty_deep(self):
         text = "F(" * 20 + "x" + ")" * 20
@@ -213,8 +202,8 @@ class Chained(Refusing):
     def test_refused_where_one_of_its_forms_is(self):
         form = eight(((("any", "x"), 1),))
         self.assertEqual(chained((("y", form),), (("x", wide(249)),)), (("x", wide(249)), ("y", eight(wide(249)))))
-        self.refused(chained, (("y", form),), (("x", wide(250)),))
-        self.refused(chained, (("a", read("A")), ("y", form), ("z", ())), (("b", ()), ("x", wide(250))))
+        self.refused(TooMany, chained, (("y", form),), (("x", wide(250)),))
+        self.refused(TooMany, chained, (("a", read("A")), ("y", form), ("z", ())), (("b", ()), ("x", wide(250))))
         # Each form counts by itself.
         self.assertEqual(len(chained((("v", form), ("w", form), ("y", form)), (("x", wide(249)),))), 4)
 
