@@ -27,6 +27,11 @@ def way(**texts):
     return tuple(sorted((name, read(text)) for name, text in texts.items()))
 
 
+def classes(*texts):
+    """A parting, each class written as a sum."""
+    return tuple(sorted(tuple(item for item, _ in read(text)) for text in texts))
+
+
 class Refusing(unittest.TestCase):
     def refused(self, error, asked, *things):
         """Fails where what is asked isn't refused by that error's own name, by MixError and by ValueError."""

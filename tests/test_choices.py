@@ -2,8 +2,8 @@ import unittest
 from collections import Counter
 from itertools import product
 
-from helper import (Numbers, Refusing, check_form, goes_round, has_round, made_form, made_pair, names_in, replaced,
-                    things_in, way)
+from helper import (Numbers, Refusing, check_form, classes, goes_round, has_round, made_form, made_pair, names_in,
+                    replaced, things_in, way)
 from mixform.choices import bonds, choices, equations, right_of, round_of, way_of
 from mixform.errors import TooMany
 from mixform.forms import plus, times
@@ -12,11 +12,6 @@ from mixform.measures import spread
 from mixform.partings import names_of, partings, things_of
 from mixform.reader import read
 from mixform.ways import put
-
-
-def classes(*texts):
-    """A parting, each class written as a sum."""
-    return tuple(sorted(tuple(item for item, _ in read(text)) for text in texts))
 
 
 def pairs(*texts):
@@ -188,6 +183,8 @@ class Choices(Refusing):
         self.assertEqual(len(told), 1000)
         self.assertEqual(told, sorted(set(told)))
         self.refused(TooMany, choices, parting, read("x + y"), read("10A + 9B + 9C"))
+        # One more than a thousand: 7 * 11 * 13.
+        self.refused(TooMany, choices, parting, read("x + y"), read("6A + 10B + 12C"))
         self.refused(TooMany, choices, classes("A"), read("w + x + y + z"), read("20A"))
         self.assertEqual(len(choices(classes("A"), read("w + x + y + z"), read("15A"))), 816)
 
