@@ -181,12 +181,12 @@ def without(bonds, settled):
         for text, count in asked.items():
             for part, often in settled.get(text, {}).items():
                 left[part] = left.get(part, 0) - count * often
-        open_ones = {text: count for text, count in asked.items() if text not in settled}
-        if any([count < 0 for count in left.values()]) or not open_ones and any([count > 0 for count in left.values()]):
+        asked_still = {text: count for text, count in asked.items() if text not in settled}
+        given_still = {text: count for text, count in left.items() if count > 0}
+        if any([count < 0 for count in left.values()]) or (given_still and not asked_still):
             return None
-        bond = open_ones, {text: count for text, count in left.items() if count > 0}
-        if open_ones and bond not in found:
-            found.append(bond)
+        if asked_still and (asked_still, given_still) not in found:
+            found.append((asked_still, given_still))
     return found
 
 
@@ -240,9 +240,10 @@ def numbers_for(columns, once, goals, most, dead):
     found = []
     for number in range(min(top, 1) if once[0] else top, -1, -1):
         left = tuple([goal - number * part for part, goal in zip(column, goals)])
-        if len(found) < most:
-            rest = numbers_for(columns[1:], once[1:], left, most - len(found), dead)
-            found.extend([(number,) + numbers for numbers in rest])
+        rest = numbers_for(columns[1:], once[1:], left, most - len(found), dead)
+        found.extend([(number,) + numbers for numbers in rest])
+        if len(found) == most:
+            break
     if not found:
         dead[(len(columns), goals)] = True
     return found

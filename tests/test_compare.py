@@ -175,6 +175,13 @@ class Great(Checking):
         things = [f"F(2{sign})" for sign in self.SIGNS[:6]]
         self.image(one, self.sums("2B", "2F(2AG)", "2F(2AH)", *things), ["x"])
 
+    def test_counts_as_numbers(self):
+        great = ((("of", "A", ()), 10 ** 18), (("any", "b"), 10 ** 18))
+        great = (("x", tuple(sorted(great))), ("y", read("2A")))
+        self.image(way(x="a + c", y="2a"), great, ["x", "y"])
+        self.image(way(x="2a + b + 3c + F(d)"), (("x", great[0][1] + read("F(A)")),), ["x"])
+        self.no_image(way(x="a", y="a"), great, ["x", "y"])
+
     def test_a_chain_of_things(self):
         names, signs = self.NAMES, self.SIGNS
         one = self.sums(*[f"G({name}, {after})" for name, after in zip(names, names[1:] + names[:1])])
